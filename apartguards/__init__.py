@@ -1,0 +1,1 @@
+"""Guards in a tree of rooms, no two side by side."""

@@ -1,0 +1,72 @@
+"""The interface's rows errors, trees and settings: names, parameters, where they are defined."""
+
+import inspect
+import unittest
+
+from apartguards import settings, trees
+from apartguards.trees import Tree
+
+METHODS = {
+    "__init__": "(self, ways)",
+    "ways": "(self)",
+    "__len__": "(self)",
+    "__eq__": "(self, other)",
+    "beside": "(self, room)",
+    "branch": "(self, room, *, away)",
+    "between": "(self, one, other)",
+    "pieces": "(self, without)",
+    "with_room": "(self, room)",
+}
+
+FUNCTIONS = {
+    "check_setting": "(tree, setting)",
+    "slides": "(tree, setting)",
+    "leaps_from": "(tree, setting)",
+    "slid": "(tree, setting, moves)",
+    "leapt": "(tree, setting, moves)",
+    "all_settings": "(tree, many, *, most=1000)",
+    "reached": "(tree, setting, *, most=1000)",
+}
+
+
+class Interface(unittest.TestCase):
+    def test_tree_has_its_methods_in_its_own_body(self):
+        self.assertEqual(Tree.__module__, trees.__name__)
+        for name, parameters in METHODS.items():
+            self.assertIn(name, vars(Tree))
+            self.assertEqual(str(inspect.signature(vars(Tree)[name])), parameters, name)
+
+    def test_settings_has_its_functions_in_its_own_file(self):
+        for name, parameters in FUNCTIONS.items():
+            told = getattr(settings, name)
+            self.assertEqual(told.__module__, settings.__name__, name)
+            self.assertEqual(str(inspect.signature(told)), parameters, name)
+
+    def test_all_parameters_may_be_handed_in_by_their_names(self):
+        tree = Tree(ways=[(0, 1), (1, 2)])
+        self.assertEqual(tree.beside(room=1), [0, 2])
+        self.assertEqual(tree.branch(away=1, room=2), [2])
+        self.assertEqual(tree.between(other=0, one=2), [2, 1, 0])
+        self.assertEqual(tree.pieces(without=[1]), [[0], [2]])
+        self.assertEqual(tree.with_room(room=0).ways(), [(0, 1), (1, 2), (0, 3)])
+        self.assertIsNone(settings.check_setting(setting=(0, 2), tree=tree))
+        self.assertEqual(settings.slides(setting=(0,), tree=tree), [(0, 1)])
+        self.assertEqual(settings.leaps_from(setting=(0,), tree=tree), [(0, 1), (0, 2)])
+        self.assertEqual(settings.slid(moves=[(0, 1)], setting=(0,), tree=tree), (1,))
+        self.assertEqual(settings.leapt(moves=[(0, 2)], setting=(0,), tree=tree), (2,))
+        self.assertEqual(settings.all_settings(most=3, many=2, tree=tree), [(0, 2)])
+        self.assertEqual(settings.reached(most=3, setting=(2,), tree=tree), [(0,), (1,), (2,)])
+
+    def test_what_stands_behind_a_star_is_not_handed_in_by_place(self):
+        tree = Tree([(0, 1)])
+        for call, things in (
+            (tree.branch, (0, 1)),
+            (settings.all_settings, (tree, 1, 1000)),
+            (settings.reached, (tree, (0,), 1000)),
+        ):
+            with self.assertRaises(TypeError):
+                call(*things)
+
+
+if __name__ == "__main__":
+    unittest.main()
