@@ -1,9 +1,9 @@
-"""The interface's rows errors, trees and settings: names, parameters, where they are defined."""
+"""The interface's rows but errors: names, parameters, where they are defined."""
 
 import inspect
 import unittest
 
-from apartguards import settings, trees
+from apartguards import come, freeing, locks, settings, trees
 from apartguards.trees import Tree
 
 METHODS = {
@@ -19,13 +19,33 @@ METHODS = {
 }
 
 FUNCTIONS = {
-    "check_setting": "(tree, setting)",
-    "slides": "(tree, setting)",
-    "leaps_from": "(tree, setting)",
-    "slid": "(tree, setting, moves)",
-    "leapt": "(tree, setting, moves)",
-    "all_settings": "(tree, many, *, most=1000)",
-    "reached": "(tree, setting, *, most=1000)",
+    settings: {
+        "check_setting": "(tree, setting)",
+        "slides": "(tree, setting)",
+        "leaps_from": "(tree, setting)",
+        "slid": "(tree, setting, moves)",
+        "leapt": "(tree, setting, moves)",
+        "all_settings": "(tree, many, *, most=1000)",
+        "reached": "(tree, setting, *, most=1000)",
+    },
+    locks: {
+        "lock": "(tree, setting)",
+        "peel": "(tree, setting)",
+        "check_peel": "(tree, setting, answer)",
+        "check_lock": "(tree, setting, guards)",
+        "branch_lock": "(tree, setting, room, *, away)",
+        "branch_locked": "(tree, setting, guard, *, away)",
+        "freed": "(tree, setting, guard)",
+    },
+    come: {
+        "key": "(tree, setting)",
+        "come": "(tree, one, other)",
+        "check_come": "(tree, one, other, answer)",
+    },
+    freeing: {
+        "fewest_out": "(tree, setting, guard)",
+        "check_out": "(tree, setting, guard, answer)",
+    },
 }
 
 
@@ -36,11 +56,12 @@ class Interface(unittest.TestCase):
             self.assertIn(name, vars(Tree))
             self.assertEqual(str(inspect.signature(vars(Tree)[name])), parameters, name)
 
-    def test_settings_has_its_functions_in_its_own_file(self):
-        for name, parameters in FUNCTIONS.items():
-            told = getattr(settings, name)
-            self.assertEqual(told.__module__, settings.__name__, name)
-            self.assertEqual(str(inspect.signature(told)), parameters, name)
+    def test_each_function_stands_in_its_own_file(self):
+        for module, functions in FUNCTIONS.items():
+            for name, parameters in functions.items():
+                told = getattr(module, name)
+                self.assertEqual(told.__module__, module.__name__, name)
+                self.assertEqual(str(inspect.signature(told)), parameters, name)
 
     def test_all_parameters_may_be_handed_in_by_their_names(self):
         tree = Tree(ways=[(0, 1), (1, 2)])
@@ -56,6 +77,18 @@ class Interface(unittest.TestCase):
         self.assertEqual(settings.leapt(moves=[(0, 2)], setting=(0,), tree=tree), (2,))
         self.assertEqual(settings.all_settings(most=3, many=2, tree=tree), [(0, 2)])
         self.assertEqual(settings.reached(most=3, setting=(2,), tree=tree), [(0,), (1,), (2,)])
+        self.assertEqual(locks.lock(setting=(0, 2), tree=tree), (0, 2))
+        self.assertEqual(locks.peel(setting=(0,), tree=tree), [(0, 1)])
+        self.assertIsNone(locks.check_peel(answer=[(0, 1)], setting=(0,), tree=tree))
+        self.assertIsNone(locks.check_lock(guards=(2, 0), setting=(0, 2), tree=tree))
+        self.assertEqual(locks.branch_lock(away=1, room=0, setting=(0, 2), tree=tree), (0,))
+        self.assertIs(locks.branch_locked(away=1, guard=0, setting=(0, 2), tree=tree), True)
+        self.assertEqual(locks.freed(guard=0, setting=(0,), tree=tree), [(0, 1)])
+        self.assertEqual(come.key(setting=(0, 2), tree=tree), ((0, 2), ()))
+        self.assertEqual(come.come(other=(), one=(0, 2), tree=tree), ("lock", 0, (0, 2)))
+        self.assertIsNone(come.check_come(answer=("lock", 1, (2, 0)), other=(0, 2), one=(), tree=tree))
+        self.assertEqual(freeing.fewest_out(guard=0, setting=(0, 2), tree=tree), ((2,), [[(2,)]]))
+        self.assertIsNone(freeing.check_out(answer=((2,), [[(2,)]]), guard=0, setting=(0, 2), tree=tree))
 
     def test_what_stands_behind_a_star_is_not_handed_in_by_place(self):
         tree = Tree([(0, 1)])
@@ -63,6 +96,8 @@ class Interface(unittest.TestCase):
             (tree.branch, (0, 1)),
             (settings.all_settings, (tree, 1, 1000)),
             (settings.reached, (tree, (0,), 1000)),
+            (locks.branch_lock, (tree, (0,), 0, 1)),
+            (locks.branch_locked, (tree, (0,), 0, 1)),
         ):
             with self.assertRaises(TypeError):
                 call(*things)

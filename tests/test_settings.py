@@ -7,18 +7,7 @@ from apartguards.errors import NoSetting, NoSlide, TooMany
 from apartguards.settings import all_settings, check_setting, leaps_from, leapt, reached, slid, slides
 from apartguards.trees import Tree
 from tests import plain
-from tests.case import GuardCase
-
-
-def wrong_settings(tree):
-    """What is no setting, each with the place that is told; of two rooms or more."""
-    rooms = len(tree)
-    wrong = [(thing, -1) for thing in plain.ODD_THINGS if not isinstance(thing, tuple)]
-    wrong += [([], -1), ([0], -1), ({0}, -1), (range(1), -1), (Tree([]), -1)]
-    for thing in (*plain.ODD_THINGS, rooms):
-        wrong += [((thing,), 0), ((0, thing), 1), ((thing, 0), 0), ((0, thing, thing), 1)]
-    wrong += [((0, 0), 1), ((rooms - 1, 0), 1), ((0, tree.beside(0)[0]), 1), ((0, 0, None), 1), ((0, None, 0), 1)]
-    return wrong
+from tests.case import GuardCase, wrong_settings
 
 
 def arms(lengths):

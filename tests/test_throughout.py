@@ -3,7 +3,10 @@
 import copy
 import unittest
 
-from apartguards.errors import GuardError, NoRoom, NoSetting, NoSlide, NoTree, TooMany
+from apartguards.come import check_come, come, key
+from apartguards.errors import GuardError, Locked, NoPaper, NoRoom, NoSetting, NoSlide, NoTree, TooMany
+from apartguards.freeing import check_out, fewest_out
+from apartguards.locks import branch_lock, branch_locked, check_lock, check_peel, freed, lock, peel
 from apartguards.settings import all_settings, check_setting, leaps_from, leapt, reached, slid, slides
 from apartguards.trees import Tree
 from tests import plain
@@ -27,16 +30,36 @@ def told_of(tree):
         leapt(tree, (0, 4), [(4, 2)]),
         all_settings(tree, 2),
         reached(tree, (0, 4)),
+        lock(tree, (0, 2, 4)),
+        peel(tree, (0, 2, 4)),
+        branch_lock(tree, (0, 3, 5), 4, away=1),
+        branch_locked(tree, (0, 3, 5), 3, away=4),
+        freed(tree, (0, 3, 5), 0),
+        key(tree, (0, 2, 4)),
+        come(tree, (0, 4), (2, 3)),
+        come(tree, (0, 2), (0, 4)),
+        come(tree, (0, 2), (0, 2, 3)),
+        fewest_out(tree, (0, 2, 4), 0),
+        fewest_out(tree, (0, 2, 4), 4),
     ]
 
 
 def spoil(told):
-    """Change a list, and each list within it, as an asker may."""
+    """Change each list that is told, and each list within it, as an asker may."""
     for inside in told:
-        if isinstance(inside, list):
+        if isinstance(inside, (list, tuple)):
             spoil(inside)
-    told.append("spoilt")
-    told.reverse()
+    if isinstance(told, list):
+        told.append("spoilt")
+        told.reverse()
+
+
+def lists_in(told):
+    """All lists that are told, those within others, too."""
+    found = [told] if isinstance(told, list) else []
+    if isinstance(told, (list, tuple)):
+        found += [one for inside in told for one in lists_in(inside)]
+    return found
 
 
 class WhatIsHandedIn(GuardCase):
@@ -54,8 +77,22 @@ class WhatIsHandedIn(GuardCase):
             self.refused(NoRoom, {"room": truth}, tree.between, 0, truth)
             self.refused(NoRoom, {"room": truth}, tree.pieces, [truth])
             self.refused(NoRoom, {"room": truth}, tree.with_room, truth)
-            for call in (check_setting, slides, leaps_from, reached):
+            for call in (check_setting, slides, leaps_from, reached, lock, peel, key):
                 self.refused(NoSetting, {"at": 0}, call, tree, (truth,))
+            for call in (branch_lock, branch_locked):
+                self.refused(NoRoom, {"room": truth}, call, tree, (0,), truth, away=1)
+                self.refused(NoRoom, {"room": truth}, call, tree, (0,), 0, away=truth)
+            for call in (freed, fewest_out):
+                self.refused(NoRoom, {"room": truth}, call, tree, (0,), truth)
+            self.refused(NoRoom, {"room": truth}, check_out, tree, (0,), truth, None)
+            self.refused(NoPaper, {"at": 0}, check_lock, tree, (0, 2), (truth,))
+            self.refused(NoPaper, {"at": 0}, check_peel, tree, (0,), [(truth, 1)])
+            self.refused(NoPaper, {"at": 0}, check_peel, tree, (0,), [(0, truth)])
+            self.refused(NoPaper, {"at": 0}, check_come, tree, (0,), (1,), ("walk", [(0, truth)]))
+            self.refused(NoPaper, {"at": -1}, check_come, tree, (0, 2), (0, 2), ("lock", truth, (0, 2)))
+            self.refused(NoPaper, {"at": 0}, check_come, tree, (0,), (), ("number", (), [truth, 1, 2]))
+            self.refused(NoPaper, {"at": 0}, check_out, tree, (0, 2), 2, ((truth,), [[(0,)]]))
+            self.refused(NoPaper, {"at": 2}, check_out, tree, (0, 2), 2, ((0,), [[(truth,)]]))
             for call in (slid, leapt):
                 self.refused(NoSlide, {"at": 0}, call, tree, (0,), [(0, truth)])
                 self.refused(NoSlide, {"at": 0}, call, tree, (1,), [(truth, 0)])
@@ -79,6 +116,12 @@ class WhatIsHandedIn(GuardCase):
         slid(tree, (0, 4), slide_moves)
         leapt(tree, (0, 4), leap_moves)
         told_of(tree)
+        steps, moves, piece, bars = [(0, 1)], [(0, 1), (1, 2)], [3, 4, 5], [[(2,)]]
+        check_peel(tree, (0,), steps)
+        check_come(tree, (0,), (2,), ("walk", moves))
+        check_come(tree, (0, 2), (0, 2, 3), ("number", (2, 0), piece))
+        check_out(tree, (0, 2, 4), 0, ((2,), bars))
+        self.assertEqual((steps, moves, piece, bars), ([(0, 1)], [(0, 1), (1, 2)], [3, 4, 5], [[(2,)]]))
         self.assertEqual((ways, without), (WAYS, [4, 1, 4]))
         self.assertEqual((slide_moves, leap_moves), ([(4, 3), (3, 4)], [(4, 2), (2, 4)]))
         self.assertEqual((tree.ways(), len(tree)), (WAYS, 6))
@@ -98,10 +141,8 @@ class WhatIsHandedIn(GuardCase):
 
     def test_no_two_told_lists_are_the_same_one(self):
         tree = Tree(list(WAYS))
-        first, again = told_of(tree), told_of(tree)
-        for one, other in zip(first, again):
-            if isinstance(one, list):
-                self.assertIsNot(one, other)
+        lists = lists_in(told_of(tree)) + lists_in(told_of(tree))
+        self.assertEqual(len({id(one) for one in lists}), len(lists))
         for one, other in zip(tree.pieces([1]), tree.pieces([1])):
             self.assertIsNot(one, other)
         moves = []
@@ -139,6 +180,13 @@ class WhatIsRefused(GuardCase):
             lambda: leapt(tree, (), None),
             lambda: all_settings(tree, 1, most=0),
             lambda: reached(tree, (), most=0),
+            lambda: lock(tree, None),
+            lambda: freed(tree, (0, 2), 0),
+            lambda: check_peel(tree, (), None),
+            lambda: check_lock(tree, (), None),
+            lambda: check_come(tree, (), (), None),
+            lambda: check_out(tree, (0,), 0, None),
+            lambda: fewest_out(tree, (), 0),
         ):
             for kind in (GuardError, ValueError):
                 with self.assertRaises(kind):
@@ -159,6 +207,12 @@ class WhatIsRefused(GuardCase):
             lambda: leapt(tree, (0, 4), moves),
             lambda: all_settings(tree, 3, most=3),
             lambda: reached(tree, (0, 4), most=2),
+            lambda: branch_lock(tree, (0, 4), 0, away=2),
+            lambda: freed(tree, (0, 2), 0),
+            lambda: check_peel(tree, (0, 4), [(4, 3), "no step"]),
+            lambda: check_lock(tree, (0, 2), (2, 0, 0)),
+            lambda: check_come(tree, (0, 4), (0, 3), ("walk", moves)),
+            lambda: check_out(tree, (0, 2, 4), 0, ((2,), [[(4,)]])),
         ):
             for _ in range(2):
                 self.assertRaises(GuardError, call)
@@ -177,6 +231,13 @@ class WhatIsRefused(GuardCase):
             self.refused(NoSlide, {"at": 1}, slid, tree, (0, 4), [(4, 3), thing])
             self.refused(NoSlide, {"at": 1}, slid, tree, (0, 4), [(4, 3), (thing, 4)])
             self.refused(NoSlide, {"at": 1}, leapt, tree, (0, 4), [(4, 3), (3, thing)])
+            self.refused(NoPaper, {"at": 1}, check_peel, tree, (0, 4), [(4, 3), (thing, 1)])
+            self.refused(NoPaper, {"at": 1}, check_lock, tree, (0, 2), (0, thing))
+            self.refused(NoPaper, {"at": -1}, check_come, tree, (), (), (thing, thing))
+            self.refused(NoPaper, {"at": -1}, check_come, tree, (), (), ("lock", thing, ()))
+            self.refused(NoPaper, {"at": 0}, check_come, tree, (), (0,), ("number", (), [thing]))
+            self.refused(NoPaper, {"at": 2}, check_out, tree, (0, 2), 0, ((2,), [[(thing,)]]))
+            self.refused(NoRoom, {"room": thing}, freed, tree, (0, 2), thing)
 
     def test_of_several_refusals_the_first_comes(self):
         sixty, tree = Tree(plain.lane(60)), Tree(list(WAYS))
@@ -188,6 +249,17 @@ class WhatIsRefused(GuardCase):
         self.refused(NoSetting, {"at": 1}, leapt, tree, (0, 1), [None])
         self.refused(NoSetting, {"at": 1}, reached, tree, (0, 1), most=0)
         self.refused(TooMany, {"many": 0}, reached, tree, (0, 4), most=0)
+        self.refused(NoSetting, {"at": 0}, come, tree, (None,), (0, None))
+        self.refused(NoSetting, {"at": 1}, come, tree, (0,), (0, None))
+        self.refused(NoSetting, {"at": 1}, check_come, tree, (0,), (0, None), None)
+        self.refused(NoRoom, {"room": None}, branch_locked, tree, (0, 2), None, away=None)
+        self.refused(NoRoom, {"room": "x"}, branch_locked, tree, (0, 2), 1, away="x")
+        self.refused(NoRoom, {"room": 1}, branch_locked, tree, (0, 2), 1, away=5)
+        self.refused(NoRoom, {"room": 5}, branch_locked, tree, (0, 2), 0, away=5)
+        self.refused(NoRoom, {"room": 1}, freed, tree, (0, 2), 1)
+        self.refused(Locked, {"lock": (0, 2)}, freed, tree, (0, 2), 2)
+        self.refused(NoRoom, {"room": 1}, check_out, tree, (0, 2), 1, None)
+        self.refused(NoPaper, {"at": 0}, check_out, tree, (0, 2), 0, (None, None))
 
 
 if __name__ == "__main__":
