@@ -1,8 +1,8 @@
 """What comes of what: slides from one setting to another one, or the reason why there are none."""
 
-from apartguards.errors import NoPaper, NoSlide
+from apartguards.errors import NoPaper
 from apartguards.locks import check_lock, lock
-from apartguards.settings import check_setting, slid
+from apartguards.settings import check_leads, check_setting, slid
 from apartguards.trees import is_whole
 from apartguards.within import free_within, rows_within
 
@@ -10,7 +10,7 @@ from apartguards.within import free_within, rows_within
 def key(tree, setting):
     """Tell (lock, numbers): settings come of one another just where this is the same."""
     guards = lock(tree, setting)
-    pieces = _pieces_between(tree, guards)
+    pieces = pieces_between(tree, guards)
     return (guards, tuple([_many_in(piece, setting) for piece in pieces]))
 
 
@@ -21,7 +21,7 @@ def come(tree, one, other):
         if not _stand_in(locks[side], setting):
             return ("lock", side, locks[side])
     # Each greatest lock stands in the other setting, and is a lock there, too: so they are the same.
-    pieces = _pieces_between(tree, locks[0])
+    pieces = pieces_between(tree, locks[0])
     for piece in pieces:
         if _many_in(piece, one) != _many_in(piece, other):
             return ("number", locks[0], piece)
@@ -38,13 +38,21 @@ def check_come(tree, one, other, answer):
     if not _is_built(answer):
         raise NoPaper(-1)
     if answer[0] == "walk":
-        _check_walk(tree, one, other, answer[1])
+        check_leads(tree, one, other, answer[1], slid)
     elif answer[0] == "number":
         _check_number(tree, one, other, answer[1], answer[2])
     elif answer[1] == 0:
         _check_locked(tree, one, other, answer[2])
     else:
         _check_locked(tree, other, one, answer[2])
+
+
+def pieces_between(tree, guards):
+    """Tell the pieces of the tree without the rooms of a lock and those beside them."""
+    without = list(guards)
+    for guard in guards:
+        without.extend(tree.beside(guard))
+    return tree.pieces(without)
 
 
 def _is_built(answer):
@@ -61,16 +69,6 @@ def _is_built(answer):
     return word == "number" and isinstance(rest[0], tuple) and isinstance(rest[1], list)
 
 
-def _check_walk(tree, one, other, moves):
-    """Refuse slides that can't be done, or lead elsewhere."""
-    try:
-        last = slid(tree, one, moves)
-    except NoSlide as refusal:
-        raise NoPaper(refusal.at) from None
-    if last != other:
-        raise NoPaper(len(moves))
-
-
 def _check_locked(tree, setting, other, guards):
     """Refuse what is no lock of a setting, or stands in the other one, too."""
     check_lock(tree, setting, guards)
@@ -84,7 +82,7 @@ def _check_number(tree, one, other, guards, piece):
     check_lock(tree, both, guards)
     # True and False are no rooms, though they are equal to some.
     whole = [room for room in piece if is_whole(room)]
-    if len(whole) != len(piece) or piece not in _pieces_between(tree, guards):
+    if len(whole) != len(piece) or piece not in pieces_between(tree, guards):
         raise NoPaper(2 * len(guards))
     if _many_in(piece, one) == _many_in(piece, other):
         raise NoPaper(2 * len(guards) + 1)
@@ -98,14 +96,6 @@ def _stand_in(guards, setting):
 def _many_in(piece, setting):
     """Tell how many guards a setting has in a piece."""
     return len([room for room in piece if room in setting])
-
-
-def _pieces_between(tree, guards):
-    """Tell the pieces of the tree without the rooms of a lock and those beside them."""
-    without = list(guards)
-    for guard in guards:
-        without.extend(tree.beside(guard))
-    return tree.pieces(without)
 
 
 def _walk_in(tree, piece, one, other):

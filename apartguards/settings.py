@@ -1,6 +1,6 @@
 """Settings: guards in rooms of a tree, no two side by side, and how they move."""
 
-from apartguards.errors import NoSetting, NoSlide, TooMany
+from apartguards.errors import NoPaper, NoSetting, NoSlide, TooMany, Unlike
 from apartguards.trees import is_room
 
 
@@ -40,6 +40,24 @@ def slid(tree, setting, moves):
 def leapt(tree, setting, moves):
     """Tell the setting behind a list of leaps, each done behind the one ahead."""
     return _moved(tree, setting, moves, _can_leap)
+
+
+def check_alike(tree, one, other):
+    """Refuse what are no two settings of as many guards."""
+    check_setting(tree, one)
+    check_setting(tree, other)
+    if len(one) != len(other):
+        raise Unlike(len(one), len(other))
+
+
+def check_leads(tree, one, other, moves, moved):
+    """Refuse an answer of moves that can't be done, or lead elsewhere; moved is slid or leapt."""
+    try:
+        last = moved(tree, one, moves)
+    except NoSlide as refusal:
+        raise NoPaper(refusal.at) from None
+    if last != other:
+        raise NoPaper(len(moves))
 
 
 def all_settings(tree, many, *, most=1000):

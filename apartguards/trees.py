@@ -15,8 +15,8 @@ def is_room(tree, thing):
     return is_whole(thing) and 0 <= thing < len(tree)
 
 
-def _is_way(thing, many):
-    """Tell whether a thing is a way of two of so many rooms."""
+def is_way(thing, many):
+    """Tell whether a thing, of whatever kind, is a way of two of so many rooms."""
     if not isinstance(thing, tuple) or len(thing) != 2:
         return False
     one, other = thing
@@ -31,7 +31,7 @@ def _check_ways(ways):
     # Rooms that hang together by the ways ahead are in the same lot.
     lots = list(range(many))
     for at, way in enumerate(ways):
-        if not _is_way(way, many) or lots[way[0]] == lots[way[1]]:
+        if not is_way(way, many) or lots[way[0]] == lots[way[1]]:
             raise NoTree(at)
         kept, lost = lots[way[0]], lots[way[1]]
         lots = [kept if lot == lost else lot for lot in lots]
@@ -44,6 +44,22 @@ def _rows_beside(ways):
         rows[one].append(other)
         rows[other].append(one)
     return [sorted(row) for row in rows]
+
+
+def hung_from(rows, start):
+    """Tell for each room that hangs together with one the next one nearer to it; the one itself has itself.
+
+    Rows tell for each room those beside it. Each room stands in the dict behind the one that it has.
+    """
+    nearer = {start: start}
+    todo = [start]
+    while todo:
+        room = todo.pop()
+        for near in rows[room]:
+            if near not in nearer:
+                nearer[near] = room
+                todo.append(near)
+    return nearer
 
 
 class Tree:
@@ -80,18 +96,10 @@ class Tree:
     def between(self, one, other):
         """Tell the rooms that one goes through from the one to the other, both among them."""
         self._check_rooms([one, other])
-        # For each room that is found, the room behind it on the way to the other.
-        behind = {other: other}
-        todo = [other]
-        while todo:
-            room = todo.pop()
-            for near in self._rows[room]:
-                if near not in behind:
-                    behind[near] = room
-                    todo.append(near)
+        nearer = hung_from(self._rows, other)
         rooms = [one]
         while rooms[-1] != other:
-            rooms.append(behind[rooms[-1]])
+            rooms.append(nearer[rooms[-1]])
         return rooms
 
     def pieces(self, without):

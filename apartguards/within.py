@@ -1,6 +1,6 @@
 """Guards in some rooms of a tree, as if there were no others."""
 
-from apartguards.trees import is_room
+from apartguards.trees import hung_from, is_room
 
 
 def all_rooms(tree):
@@ -12,6 +12,14 @@ def rows_within(tree, rooms):
     """Tell for each of some rooms those among them that are beside it, rising."""
     inside = {room: True for room in rooms}
     return {room: [near for near in tree.beside(room) if near in inside] for room in rooms}
+
+
+def inward(rows, start):
+    """Tell all rooms that hang together with one but itself, each with the next one nearer to it.
+
+    Each room comes behind all that hang on it.
+    """
+    return list(hung_from(rows, start).items())[:0:-1]
 
 
 def rooms_out(rows, guards, guard):

@@ -1,4 +1,4 @@
-"""Plain searches for locks, bars and what comes of what, and plain looks at answers.
+"""Plain searches for locks, bars and what comes of what, and plain looks at answers; greatest.py has more.
 
 Nothing here imports the package: a tree is a list of ways. Each place_of tells the
 place (at) at which an answer must be refused, or None of a right answer.
@@ -76,23 +76,33 @@ def key(ways, setting):
     return guards, numbers(pieces_between(ways, guards), setting)
 
 
-def can_slide(ways, setting, move):
-    """Whether a thing is a slide that can be done; the setting is known to be one."""
+def can_leap(ways, setting, move):
+    """Whether a thing is a leap that can be done; the setting is known to be one."""
     if type(move) is not tuple or len(move) != 2 or [type(room) for room in move] != [int, int]:
         return False
     room, other = move
-    if room not in setting or other not in plain.near(ways, room):
+    if room not in setting or other in setting or other not in rooms_of(ways):
         return False
     return not [near for near in plain.near(ways, other) if near in setting and near != room]
 
 
-def slid(ways, setting, moves):
+def can_slide(ways, setting, move):
+    """Whether it is one into a room beside the guard's own."""
+    return can_leap(ways, setting, move) and move[1] in plain.near(ways, move[0])
+
+
+def slid(ways, setting, moves, can_move=can_slide):
     """The setting behind slides, done one by one, and the number of the first that can't be done, or None."""
     for at, move in enumerate(moves):
-        if not can_slide(ways, setting, move):
+        if not can_move(ways, setting, move):
             return setting, at
         setting = plain.behind(setting, move)
     return setting, None
+
+
+def leapt(ways, setting, moves):
+    """The same of leaps."""
+    return slid(ways, setting, moves, can_leap)
 
 
 def is_guard(setting, thing):
@@ -139,6 +149,13 @@ def place_of_come(ways, one, other, answer):
     if word == "number" and [type(thing) for thing in rest] == [tuple, list]:
         return place_of_number(ways, one, other, *rest)
     return -1
+
+
+def place_of_leaps(ways, one, other, answer):
+    if type(answer) is not list:
+        return -1
+    last, wrong = leapt(ways, one, answer)
+    return wrong if wrong is not None else None if last == other else len(answer)
 
 
 def place_of_number(ways, one, other, guards, piece):

@@ -3,7 +3,7 @@
 import inspect
 import unittest
 
-from apartguards import come, freeing, locks, settings, trees
+from apartguards import come, counts, freeing, lanes, leaps, locks, most, settings, trees
 from apartguards.trees import Tree
 
 METHODS = {
@@ -45,6 +45,29 @@ FUNCTIONS = {
     freeing: {
         "fewest_out": "(tree, setting, guard)",
         "check_out": "(tree, setting, guard, answer)",
+    },
+    leaps: {
+        "leaps": "(tree, one, other)",
+        "check_leaps": "(tree, one, other, answer)",
+    },
+    lanes: {
+        "needs": "(tree, one, other)",
+        "least": "(tree, one, other)",
+        "lane_slides": "(tree, one, other)",
+    },
+    most: {
+        "most": "(tree)",
+        "check_most": "(tree, answer)",
+        "about": "(tree, room)",
+        "check_about": "(tree, room, answer)",
+        "always": "(tree)",
+        "never": "(tree)",
+        "greatest_many": "(tree)",
+    },
+    counts: {
+        "how_many": "(tree, many)",
+        "how_many_free": "(tree, many)",
+        "how_many_come": "(tree, setting)",
     },
 }
 
@@ -89,6 +112,20 @@ class Interface(unittest.TestCase):
         self.assertIsNone(come.check_come(answer=("lock", 1, (2, 0)), other=(0, 2), one=(), tree=tree))
         self.assertEqual(freeing.fewest_out(guard=0, setting=(0, 2), tree=tree), ((2,), [[(2,)]]))
         self.assertIsNone(freeing.check_out(answer=((2,), [[(2,)]]), guard=0, setting=(0, 2), tree=tree))
+        self.assertEqual(leaps.leaps(other=(2,), one=(0,), tree=tree), [(0, 2)])
+        self.assertEqual(leaps.check_leaps(answer=[(0, 2)], other=(2,), one=(0,), tree=tree), 1)
+        self.assertEqual(lanes.needs(other=(1,), one=(0,), tree=tree), [((0, 1), 1), ((1, 2), 0)])
+        self.assertEqual(lanes.least(other=(2,), one=(0,), tree=tree), 2)
+        self.assertEqual(lanes.lane_slides(other=(2,), one=(0,), tree=tree), [(0, 1), (1, 2)])
+        self.assertEqual(most.most(tree=tree), ((0, 2), [(1, 2)]))
+        self.assertEqual(most.check_most(answer=((0, 2), [(0, 1)]), tree=tree), 2)
+        self.assertEqual(most.about(room=0, tree=tree), ("always", (0, 2), [(1, 2)]))
+        self.assertEqual(most.check_about(answer=("never", 0, (0, 2), [(1, 2)]), room=1, tree=tree), "never")
+        self.assertEqual((most.always(tree=tree), most.never(tree=tree)), ((0, 2), (1,)))
+        self.assertEqual(most.greatest_many(tree=tree), 1)
+        self.assertEqual(counts.how_many(many=1, tree=tree), 3)
+        self.assertEqual(counts.how_many_free(many=2, tree=tree), 0)
+        self.assertEqual(counts.how_many_come(setting=(1,), tree=tree), 3)
 
     def test_what_stands_behind_a_star_is_not_handed_in_by_place(self):
         tree = Tree([(0, 1)])

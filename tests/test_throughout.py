@@ -4,9 +4,13 @@ import copy
 import unittest
 
 from apartguards.come import check_come, come, key
-from apartguards.errors import GuardError, Locked, NoPaper, NoRoom, NoSetting, NoSlide, NoTree, TooMany
+from apartguards.counts import how_many, how_many_come, how_many_free
+from apartguards.errors import GuardError, Locked, NoLane, NoPaper, NoRoom, NoSetting, NoSlide, NoTree, TooMany, Unlike
 from apartguards.freeing import check_out, fewest_out
+from apartguards.lanes import lane_slides, least, needs
+from apartguards.leaps import check_leaps, leaps
 from apartguards.locks import branch_lock, branch_locked, check_lock, check_peel, freed, lock, peel
+from apartguards.most import about, always, check_about, check_most, greatest_many, most, never
 from apartguards.settings import all_settings, check_setting, leaps_from, leapt, reached, slid, slides
 from apartguards.trees import Tree
 from tests import plain
@@ -41,6 +45,18 @@ def told_of(tree):
         come(tree, (0, 2), (0, 2, 3)),
         fewest_out(tree, (0, 2, 4), 0),
         fewest_out(tree, (0, 2, 4), 4),
+        leaps(tree, (0, 4), (2, 3)),
+        needs(tree, (0, 4), (2, 3)),
+        least(tree, (0, 4), (2, 3)),
+        lane_slides(Tree(plain.lane(4)), (0, 2), (1, 3)),
+        how_many(tree, 2),
+        how_many_free(tree, 2),
+        how_many_come(tree, (0, 4)),
+        most(tree),
+        [about(tree, room) for room in range(len(tree))],
+        always(tree),
+        never(tree),
+        greatest_many(tree),
     ]
 
 
@@ -77,7 +93,7 @@ class WhatIsHandedIn(GuardCase):
             self.refused(NoRoom, {"room": truth}, tree.between, 0, truth)
             self.refused(NoRoom, {"room": truth}, tree.pieces, [truth])
             self.refused(NoRoom, {"room": truth}, tree.with_room, truth)
-            for call in (check_setting, slides, leaps_from, reached, lock, peel, key):
+            for call in (check_setting, slides, leaps_from, reached, lock, peel, key, how_many_come):
                 self.refused(NoSetting, {"at": 0}, call, tree, (truth,))
             for call in (branch_lock, branch_locked):
                 self.refused(NoRoom, {"room": truth}, call, tree, (0,), truth, away=1)
@@ -93,6 +109,17 @@ class WhatIsHandedIn(GuardCase):
             self.refused(NoPaper, {"at": 0}, check_come, tree, (0,), (), ("number", (), [truth, 1, 2]))
             self.refused(NoPaper, {"at": 0}, check_out, tree, (0, 2), 2, ((truth,), [[(0,)]]))
             self.refused(NoPaper, {"at": 2}, check_out, tree, (0, 2), 2, ((0,), [[(truth,)]]))
+            for call in (leaps, needs, least, lane_slides):
+                self.refused(NoSetting, {"at": 0}, call, tree, (truth,), (0,))
+                self.refused(NoSetting, {"at": 0}, call, tree, (0,), (truth,))
+            self.refused(NoPaper, {"at": 0}, check_leaps, tree, (0,), (1,), [(0, truth)])
+            self.refused(NoPaper, {"at": 0}, check_leaps, tree, (1,), (0,), [(truth, 0)])
+            self.refused(NoPaper, {"at": -1}, check_most, tree, ((truth,), []))
+            self.refused(NoPaper, {"at": 0}, check_most, tree, ((0, 2), [(truth, 2)]))
+            self.refused(NoRoom, {"room": truth}, about, tree, truth)
+            self.refused(NoRoom, {"room": truth}, check_about, tree, truth, ("always", (0, 2), [(1, 2)]))
+            self.refused(NoPaper, {"at": 1}, check_about, tree, 1, ("never", truth, (0, 2), [(1, 2)]))
+            self.refused(NoPaper, {"at": 2}, check_about, tree, 0, ("always", (0, 2), [(truth, 2)]))
             for call in (slid, leapt):
                 self.refused(NoSlide, {"at": 0}, call, tree, (0,), [(0, truth)])
                 self.refused(NoSlide, {"at": 0}, call, tree, (1,), [(truth, 0)])
@@ -122,6 +149,11 @@ class WhatIsHandedIn(GuardCase):
         check_come(tree, (0, 2), (0, 2, 3), ("number", (2, 0), piece))
         check_out(tree, (0, 2, 4), 0, ((2,), bars))
         self.assertEqual((steps, moves, piece, bars), ([(0, 1)], [(0, 1), (1, 2)], [3, 4, 5], [[(2,)]]))
+        row, lot = [(4, 2), (0, 4)], [(0, 1), (3, 4)]
+        check_leaps(tree, (0, 4), (2, 4), row)
+        check_most(tree, ((0, 2, 3, 5), lot))
+        check_about(tree, 2, ("always", (0, 2, 3, 5), lot))
+        self.assertEqual((row, lot), ([(4, 2), (0, 4)], [(0, 1), (3, 4)]))
         self.assertEqual((ways, without), (WAYS, [4, 1, 4]))
         self.assertEqual((slide_moves, leap_moves), ([(4, 3), (3, 4)], [(4, 2), (2, 4)]))
         self.assertEqual((tree.ways(), len(tree)), (WAYS, 6))
@@ -187,6 +219,13 @@ class WhatIsRefused(GuardCase):
             lambda: check_come(tree, (), (), None),
             lambda: check_out(tree, (0,), 0, None),
             lambda: fewest_out(tree, (), 0),
+            lambda: leaps(tree, (0,), ()),
+            lambda: check_leaps(tree, (), (), None),
+            lambda: lane_slides(tree, (), ()),
+            lambda: how_many_come(tree, None),
+            lambda: check_most(tree, None),
+            lambda: about(tree, None),
+            lambda: check_about(tree, 0, None),
         ):
             for kind in (GuardError, ValueError):
                 with self.assertRaises(kind):
@@ -213,6 +252,15 @@ class WhatIsRefused(GuardCase):
             lambda: check_lock(tree, (0, 2), (2, 0, 0)),
             lambda: check_come(tree, (0, 4), (0, 3), ("walk", moves)),
             lambda: check_out(tree, (0, 2, 4), 0, ((2,), [[(4,)]])),
+            lambda: leaps(tree, (0, 4), (0,)),
+            lambda: check_leaps(tree, (0, 4), (2, 3), moves),
+            lambda: needs(tree, (0, 4), (0, None)),
+            lambda: least(tree, (0, 4), ()),
+            lambda: lane_slides(tree, (0, 4), (2, 3)),
+            lambda: how_many_come(tree, (0, 1)),
+            lambda: check_most(tree, ((0, 2, 3, 5), [(0, 1), (1, 2)])),
+            lambda: about(tree, 6),
+            lambda: check_about(tree, 2, ("always", (0, 2, 3, 5), [(1, 2), (3, 4)])),
         ):
             for _ in range(2):
                 self.assertRaises(GuardError, call)
@@ -238,6 +286,12 @@ class WhatIsRefused(GuardCase):
             self.refused(NoPaper, {"at": 0}, check_come, tree, (), (0,), ("number", (), [thing]))
             self.refused(NoPaper, {"at": 2}, check_out, tree, (0, 2), 0, ((2,), [[(thing,)]]))
             self.refused(NoRoom, {"room": thing}, freed, tree, (0, 2), thing)
+            self.refused(NoSetting, {"at": 1}, leaps, tree, (0, 2), (0, thing))
+            self.refused(NoPaper, {"at": 1}, check_leaps, tree, (0, 4), (2, 4), [(4, 2), (thing, 4)])
+            self.refused(NoPaper, {"at": 1}, check_most, tree, ((0, 2, 3, 5), [(0, 1), (3, thing)]))
+            self.refused(NoPaper, {"at": 0}, check_about, tree, 2, (thing, (0, 2, 3, 5), []))
+            self.refused(NoPaper, {"at": 1}, check_about, tree, 1, ("never", thing, (0, 2, 3, 5), []))
+            self.refused(NoRoom, {"room": thing}, about, tree, thing)
 
     def test_of_several_refusals_the_first_comes(self):
         sixty, tree = Tree(plain.lane(60)), Tree(list(WAYS))
@@ -260,6 +314,19 @@ class WhatIsRefused(GuardCase):
         self.refused(Locked, {"lock": (0, 2)}, freed, tree, (0, 2), 2)
         self.refused(NoRoom, {"room": 1}, check_out, tree, (0, 2), 1, None)
         self.refused(NoPaper, {"at": 0}, check_out, tree, (0, 2), 0, (None, None))
+        for call in (leaps, needs, least, lane_slides):
+            self.refused(NoSetting, {"at": 0}, call, tree, (None,), (0, None))
+            self.refused(NoSetting, {"at": 1}, call, tree, (0,), (0, None))
+            self.refused(Unlike, {"many": 1, "more": 2}, call, tree, (0,), (0, 2))
+        self.refused(NoLane, {"room": 1}, lane_slides, tree, (0,), (4,))
+        self.refused(NoSetting, {"at": 1}, check_leaps, tree, (0,), (0, None), None)
+        self.refused(Unlike, {"many": 2, "more": 1}, check_leaps, tree, (0, 2), (0,), None)
+        self.refused(NoPaper, {"at": -1}, check_most, tree, ((0, 1), [None]))
+        self.refused(NoPaper, {"at": 0}, check_most, tree, ((), [None]))
+        self.refused(NoRoom, {"room": None}, check_about, tree, None, None)
+        self.refused(NoPaper, {"at": 0}, check_about, tree, 0, ("never", None))
+        self.refused(NoPaper, {"at": 1}, check_about, tree, 0, ("never", None, None, None))
+        self.refused(NoPaper, {"at": 2}, check_about, tree, 0, ("never", 1, None, None))
 
 
 if __name__ == "__main__":
