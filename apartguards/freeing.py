@@ -1,7 +1,7 @@
 """Freed: the fewest guards that must be taken out so that a locked one can move."""
 
 from apartguards.errors import NoPaper
-from apartguards.locks import branch_lock, branch_locked, check_guard
+from apartguards.locks import check_guard
 from apartguards.within import all_rooms, lock_within, loose_guard, wrong_guard
 
 
@@ -11,13 +11,11 @@ def fewest_out(tree, setting, guard):
     rooms = tree.beside(guard)
     if not rooms:
         return None
-    lots = [_heads_at(tree, setting, guard, room) for room in rooms]
+    bars = _bars_away(tree, setting, guard)
+    lots = [[head for head in tree.beside(room) if head in bars] for room in rooms]
     # A bar is broken by its head: at the room with the fewest heads nobody keeps the guard in then.
     taken = min(lots, key=len)
-    bars = []
-    for room, heads in zip(rooms, lots):
-        bars.append([branch_lock(tree, setting, head, away=room) for head in heads[: len(taken)]])
-    return (tuple(taken), bars)
+    return (tuple(taken), [[bars[head] for head in heads[: len(taken)]] for heads in lots])
 
 
 def check_out(tree, setting, guard, answer):
@@ -40,10 +38,21 @@ def check_out(tree, setting, guard, answer):
             raise NoPaper(2 + at)
 
 
-def _heads_at(tree, setting, guard, room):
-    """Tell the other guards beside a room who are locked in their branches, rising."""
-    others = [near for near in tree.beside(room) if near in setting and near != guard]
-    return [head for head in others if branch_locked(tree, setting, head, away=room)]
+def _bars_away(tree, setting, guard):
+    """Tell for each guard who is locked in a branch away from a room beside a guard all who are locked there.
+
+    These branches, the guard's own left out, are the pieces without the guard and the rooms beside it.
+    So one look at all of them tells for each head of a bar who is locked in its branch.
+    """
+    pieces = tree.pieces([guard, *tree.beside(guard)])
+    guards = lock_within(tree, [room for piece in pieces for room in piece], setting)
+    locked = {room: True for room in guards}
+    bars = {}
+    for piece in pieces:
+        bar = tuple([room for room in piece if room in locked])
+        for room in bar:
+            bars[room] = bar
+    return bars
 
 
 def _are_guards(tree, setting, things):

@@ -35,15 +35,19 @@ def outs_within(tree, rooms, setting):
     """Tell a room to go out into for each guard that isn't in the greatest lock, in the order of a peel."""
     rows = rows_within(tree, rooms)
     left = {guard: True for guard in setting if guard in rows}
+    # How many of those who are left stand beside each room: counted once, not over and over for each of them.
+    many = {room: len([near for near in rows[room] if near in left]) for room in rows}
     outs = {}
     more = True
     while more:
         more = False
         for guard in list(left):
-            found = rooms_out(rows, left, guard)
+            found = [room for room in rows[guard] if many[room] == 1]
             if found:
                 outs[guard] = found[0]
                 del left[guard]
+                for room in rows[guard]:
+                    many[room] -= 1
                 more = True
     return outs
 

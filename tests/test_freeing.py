@@ -1,10 +1,12 @@
 """Points [45] to [47]: bars, and the fewest guards that must be taken out."""
 
 import itertools
+import sys
 import unittest
 
 from apartguards.errors import NoPaper, NoRoom
 from apartguards.freeing import check_out, fewest_out
+from apartguards.locks import lock
 from apartguards.trees import Tree
 from tests import papers, plain
 from tests.case import GuardCase
@@ -38,6 +40,30 @@ def great_tries():
     rows += [(plain.lane(59), tuple(range(0, 59, 2))), (plain.lane(60), tuple(range(0, 60, 2)))]
     spider = [(0, room) if room % 2 else (room - 1, room) for room in range(1, 59)]
     return rows + [(spider, (0, *range(2, 59, 2))), (spider, tuple(range(1, 59, 2)))]
+
+
+def crowds():
+    """Trees of many rooms with many guards beside one room, each with a setting and a guard of it."""
+    twos = [(0, k) for k in range(1, 20)] + [(k, k + more) for more in (19, 38) for k in range(1, 20)]
+    rows = [(plain.star(60), tuple(range(1, 60)), 1), (twos, (0, *range(20, 58)), 0), (twos, (0, *range(20, 58)), 57)]
+    # Two stars around 0 and 30, their middles side by side, or with room 1 between them.
+    stars = plain.star(30) + [(30, room) for room in range(31, 60)]
+    leaves = (*range(1, 30), *range(31, 60))
+    rows += [(stars + [(0, 30)], leaves, guard) for guard in (1, 29, 59)]
+    rows += [(stars + [(1, 30)], leaves, guard) for guard in (1, 2, 59)]
+    return rows
+
+
+def calls_of(call, *things):
+    """How many calls, of whatever functions, one call comes to."""
+    seen = []
+    kept = sys.getprofile()
+    sys.setprofile(lambda _frame, event, _thing: seen.append(event) if event in ("call", "c_call") else None)
+    try:
+        call(*things)
+    finally:
+        sys.setprofile(kept)
+    return len(seen)
 
 
 class FewestOut(GuardCase):
@@ -127,6 +153,18 @@ class FewestOut(GuardCase):
             lane = tuple(range(0, 59, 2))
             self.assertEqual(self.hold_fewest(plain.lane(59), lane, 30), 1)
             self.assertEqual(fewest_out(Tree(plain.lane(59)), lane, 0), ((2,), [[lane[1:]]]))
+
+    def test_many_guards_beside_one_room(self):
+        with plain.within(60):
+            many = [self.hold_fewest(ways, setting, guard) for ways, setting, guard in crowds()]
+        self.assertEqual(many, [58, 2, 2, 28, 28, 28, 28, 28, 29])
+
+    def test_not_much_longer_than_a_lock_where_many_guards_stand_beside_one_room(self):
+        # Who looks at the whole setting for each of these guards makes about a hundred times as many calls.
+        rows = crowds() + [(ways, setting, setting[-1]) for ways, setting in great_tries()]
+        for ways, setting, guard in rows:
+            tree = Tree(ways)
+            self.assertLess(calls_of(fewest_out, tree, setting, guard), 5 * calls_of(lock, tree, setting))
 
     def test_what_is_told_is_the_same_again(self):
         for ways, setting, guard in tried()[::7]:
